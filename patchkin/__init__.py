@@ -1,0 +1,1 @@
+"""Patchkin: texts kept by patches that stores take from one another in any order."""
