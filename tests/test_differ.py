@@ -102,9 +102,11 @@ class AgainstPlainSearch(unittest.TestCase):
     def hold(self, texts, longest):
         for old in all_lists(texts, longest):
             for new in all_lists(texts, longest):
+                # Copies, so that a kept that changes its lists fails here and doesn't run on without end.
+                answer = kept(list(old), list(new))
                 wanted = by_plain_search(old, new)
-                if kept(old, new) != wanted:
-                    self.fail(f"kept({old}, {new}) gave {kept(old, new)}, not {wanted}")
+                if answer != wanted:
+                    self.fail(f"kept({old}, {new}) gave {answer}, not {wanted}")
 
     def test_two_texts_up_to_five(self):
         self.hold(["a", "b"], 5)
